@@ -187,6 +187,53 @@ func TestNilAndEmptyAreTheSame(t *testing.T) {
 	}
 }
 
+// copied are plans to be copied: of nets and of none, with lists and without.
+func copied() []api.Plan {
+	of, _ := paths.Plan(mesh(8, one), 5, []api.Flow{flow(0, 1, []int{2, 3}, []int{5, 6}), flow(1, 0, []int{4, 3, 2}, []int{7}), plain(2, 3)})
+	return []api.Plan{
+		{},
+		{Version: 9},
+		{Version: 1, Flows: []api.Flow{}, Paths: []api.Path{}},
+		{Version: math.MinInt, Flows: []api.Flow{flow(-1, math.MaxInt, []int{}, []int{9, 9})}},
+		{Version: 2, Paths: []api.Path{nil, {}, {-1, 8}}},
+		of,
+	}
+}
+
+func TestCopy(t *testing.T) {
+	for _, p := range copied() {
+		if got := paths.Copy(p); !samePlan(got, p) {
+			t.Errorf("%v, not %v", got, p)
+		}
+	}
+}
+
+// TestCopyIsNewMemory fills what was copied, and the copy: neither is seen in the other one.
+func TestCopyIsNewMemory(t *testing.T) {
+	fill := func(p api.Plan) {
+		for _, f := range p.Flows {
+			clear(f.Via[:cap(f.Via)])
+			clear(f.Not[:cap(f.Not)])
+		}
+		for _, path := range p.Paths {
+			clear(path[:cap(path)])
+		}
+		clear(p.Flows[:cap(p.Flows)])
+		clear(p.Paths[:cap(p.Paths)])
+	}
+	for i, p := range copied() {
+		got := paths.Copy(p)
+		fill(paths.Copy(p))
+		if want := copied()[i]; !samePlan(p, want) {
+			t.Errorf("the copy is filled, and what was copied is %v, not %v", p, want)
+		}
+		fill(p)
+		if want := copied()[i]; !samePlan(got, want) {
+			t.Errorf("what was copied is filled, and the copy is %v, not %v", got, want)
+		}
+	}
+}
+
 // TestWhateverIsGiven: nothing panics, and beside an error there is nothing.
 func TestWhateverIsGiven(t *testing.T) {
 	odd := []int{math.MinInt, -1, 0, 1, 2, 7, 8, 9, 1 << 32, math.MaxInt}
